@@ -43,10 +43,17 @@ func (d *Disk) Take(n int) (taken []int, e api.Errno) {
 	return taken, api.OK
 }
 
-// Give makes blocks free. They are wiped here, so that whoever takes them next finds only 0.
-func (d *Disk) Give(blocks []int) {
+// Wipe lets only 0 stand in blocks.
+func (d *Disk) Wipe(blocks []int) {
 	for _, n := range blocks {
 		d.blocks[n] = api.Block{}
+	}
+}
+
+// Give makes blocks free. They are wiped here, so that whoever takes them next finds only 0.
+func (d *Disk) Give(blocks []int) {
+	d.Wipe(blocks)
+	for _, n := range blocks {
 		d.free.push(n)
 	}
 }

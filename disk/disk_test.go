@@ -106,3 +106,18 @@ func TestGivenBlocksAreWiped(t *testing.T) {
 		t.Errorf("a block that was not given holds %v", d.Read(1))
 	}
 }
+
+func TestWipedBlocksStayTaken(t *testing.T) {
+	d := New(4)
+	l, _ := d.Take(3)
+	for _, n := range l {
+		d.Write(n, api.Block{1, 7: byte(n)})
+	}
+	d.Wipe([]int{2, 0})
+	if d.Read(0) != (api.Block{}) || d.Read(1) != (api.Block{1, 7: 1}) || d.Read(2) != (api.Block{}) {
+		t.Errorf("behind Wipe(2, 0): %v, %v, %v", d.Read(0), d.Read(1), d.Read(2))
+	}
+	if d.Free() != 1 {
+		t.Errorf("Free() = %d, want 1", d.Free())
+	}
+}

@@ -46,42 +46,60 @@ func (p *Pool) find(name string) (*volume, api.Errno) {
 	return p.volumes[i], api.OK
 }
 
-// findPlace tells which block of the disk holds a place.
-func (p *Pool) findPlace(name string, at int) (int, api.Errno) {
+// findPlace tells what has a name and such a place.
+func (p *Pool) findPlace(name string, at int) (*volume, api.Errno) {
 	v, e := p.find(name)
 	if e != api.OK {
-		return 0, e
+		return nil, e
+	}
+	if v.lost {
+		return nil, api.ErrLost
 	}
 	if !v.hasPlace(at) {
-		return 0, api.ErrArg
+		return nil, api.ErrArg
 	}
-	return v.blocks[at], api.OK
+	return v, api.OK
+}
+
+// findNew tells where a name that is new would stand among the volumes.
+func (p *Pool) findNew(name string) (int, api.Errno) {
+	if !p.made() {
+		return 0, api.ErrClosed
+	}
+	if !isName(name) {
+		return 0, api.ErrName
+	}
+	i, exists := p.index(name)
+	if exists {
+		return 0, api.ErrExists
+	}
+	return i, api.OK
 }
 
 // Create makes a volume (P4).
 func (p *Pool) Create(name string, size int) api.Errno {
-	if !p.made() {
-		return api.ErrClosed
-	}
-	if !isName(name) {
-		return api.ErrName
-	}
-	i, exists := p.index(name)
-	if exists {
-		return api.ErrExists
+	i, e := p.findNew(name)
+	if e != api.OK {
+		return e
 	}
 	if !isCount(size) {
 		return api.ErrArg
 	}
+	// The name is copied, here and of a picture: the caller's text may be a small piece of a great one.
+	return p.add(i, &volume{name: strings.Clone(name)}, size)
+}
+
+// add gives v so many blocks, and puts it at i among the volumes.
+func (p *Pool) add(i int, v *volume, count int) api.Errno {
 	if len(p.volumes) >= api.MaxVolumes {
 		return api.ErrMany
 	}
-	blocks, e := p.disk.Take(size)
+	blocks, e := p.disk.Take(count)
 	if e != api.OK {
 		return e
 	}
-	// The name is copied: the caller's text may be a small piece of a great one.
-	p.insert(i, &volume{name: strings.Clone(name), blocks: blocks})
+	v.blocks = blocks
+	p.insert(i, v)
 	return api.OK
 }
 
@@ -92,27 +110,46 @@ func (p *Pool) insert(i int, v *volume) {
 }
 
 // Picture takes a picture of a volume (P4).
-func (p *Pool) Picture(name string, of string, room int) api.Errno { return api.OK }
+func (p *Pool) Picture(name string, of string, room int) api.Errno {
+	i, e := p.findNew(name)
+	if e != api.OK {
+		return e
+	}
+	origin, e := p.find(of)
+	if e != api.OK {
+		return e
+	}
+	if origin.isPicture() {
+		return api.ErrPicture
+	}
+	if room < 1 || room > origin.size() {
+		return api.ErrArg
+	}
+	return p.add(i, &volume{name: strings.Clone(name), origin: origin}, room)
+}
 
 // Read tells what stands somewhere (P5).
 func (p *Pool) Read(name string, at int) (api.Block, api.Errno) {
-	n, e := p.findPlace(name, at)
+	v, e := p.findPlace(name, at)
 	if e != api.OK {
 		return api.Block{}, e
 	}
-	return p.disk.Read(n), api.OK
+	return p.disk.Read(v.holder(at)), api.OK
 }
 
 // Write lets a block stand somewhere (P5).
 func (p *Pool) Write(name string, at int, b api.Block) api.Errno {
-	n, e := p.findPlace(name, at)
+	v, e := p.findPlace(name, at)
 	if e != api.OK {
 		return e
 	}
-	if p.disk.Read(n) == b {
+	if p.disk.Read(v.holder(at)) == b {
 		return api.OK
 	}
-	p.disk.Write(n, b)
+	if v.isPicture() {
+		return p.writePicture(v, at, b)
+	}
+	p.writeVolume(v, at, b)
 	return api.OK
 }
 
@@ -121,6 +158,12 @@ func (p *Pool) Resize(name string, size int) api.Errno {
 	v, e := p.find(name)
 	if e != api.OK {
 		return e
+	}
+	if v.isPicture() {
+		return api.ErrPicture
+	}
+	if len(p.picturesOf(v)) > 0 {
+		return api.ErrBusy
 	}
 	if !isCount(size) {
 		return api.ErrArg
@@ -138,7 +181,26 @@ func (p *Pool) Resize(name string, size int) api.Errno {
 }
 
 // Revert makes a picture its origin's content (P6).
-func (p *Pool) Revert(name string) api.Errno { return api.OK }
+func (p *Pool) Revert(name string) api.Errno {
+	v, e := p.find(name)
+	if e != api.OK {
+		return e
+	}
+	if !v.isPicture() {
+		return api.ErrPicture
+	}
+	if v.lost {
+		return api.ErrLost
+	}
+	if len(p.picturesOf(v.origin)) > 1 {
+		return api.ErrBusy
+	}
+	for k, at := range v.kept {
+		p.disk.Write(v.origin.holder(at), p.disk.Read(v.blocks[k]))
+	}
+	p.drop(v)
+	return api.OK
+}
 
 // Remove takes a volume or a picture away (P6).
 func (p *Pool) Remove(name string) api.Errno {
@@ -146,10 +208,18 @@ func (p *Pool) Remove(name string) api.Errno {
 	if e != api.OK {
 		return e
 	}
-	p.disk.Give(v.blocks)
-	i, _ := p.index(name)
-	p.volumes = append(p.volumes[:i:i], p.volumes[i+1:]...)
+	if len(p.picturesOf(v)) > 0 {
+		return api.ErrBusy
+	}
+	p.drop(v)
 	return api.OK
+}
+
+// drop takes v out of the list, and makes its blocks free.
+func (p *Pool) drop(v *volume) {
+	p.disk.Give(v.blocks)
+	i, _ := p.index(v.name)
+	p.volumes = append(p.volumes[:i:i], p.volumes[i+1:]...)
 }
 
 // List tells all volumes and pictures (P7).
