@@ -14,6 +14,9 @@ func New(n int) *Disk {
 	return &Disk{blocks: make([]api.Block, n), free: upTo(n)}
 }
 
+// Size tells how many blocks there are.
+func (d *Disk) Size() int { return len(d.blocks) }
+
 // Free tells how many blocks are free.
 func (d *Disk) Free() int { return len(d.free) }
 

@@ -63,6 +63,14 @@ func TestHeapUpTo(t *testing.T) {
 	}
 }
 
+func TestSizeStaysTheSame(t *testing.T) {
+	d := New(5)
+	d.Take(3)
+	if d.Size() != 5 || d.Free() != 2 {
+		t.Errorf("Size() = %d, Free() = %d, want 5, 2", d.Size(), d.Free())
+	}
+}
+
 func TestTakeTheLowest(t *testing.T) {
 	d := New(8)
 	d.Take(6)

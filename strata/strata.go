@@ -21,12 +21,17 @@ func NewPool(blocks int) (*Pool, api.Errno) {
 	if !isCount(blocks) {
 		return nil, api.ErrArg
 	}
-	p := &Pool{disk: disk.New(blocks)}
-	p.self = p
-	return p, api.OK
+	return newPool(disk.New(blocks), nil), api.OK
 }
 
-// made tells whether NewPool made this Pool.
+// newPool makes a Pool of a disk and of what is on it, by name.
+func newPool(d *disk.Disk, volumes []*volume) *Pool {
+	p := &Pool{disk: d, volumes: volumes}
+	p.self = p
+	return p
+}
+
+// made tells whether NewPool or Load made this Pool.
 func (p *Pool) made() bool { return p != nil && p.self == p }
 
 // index tells where a name stands among the volumes, or would stand.
@@ -250,9 +255,3 @@ func (p *Pool) Free() int {
 	}
 	return p.disk.Free()
 }
-
-// Image tells all as bytes (P8).
-func (p *Pool) Image() []byte { return nil }
-
-// Load makes a Pool out of its image (P8).
-func Load(image []byte) (*Pool, api.Errno, int) { return nil, api.OK, 0 }

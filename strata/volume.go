@@ -64,6 +64,15 @@ func (v *volume) cut(size int) []int {
 	return rest
 }
 
+// used lists the blocks in which something may stand: of a picture those that hold the places that it keeps.
+func (v *volume) used() []int {
+	n := len(v.blocks)
+	if v.isPicture() {
+		n = len(v.kept)
+	}
+	return v.blocks[:n:n]
+}
+
 // told is what List tells.
 func (v *volume) told() api.Volume {
 	if !v.isPicture() {
